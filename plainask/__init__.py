@@ -1,0 +1,1 @@
+"""Plainask: rounds of questions in which honesty is plainly best."""

@@ -1,0 +1,17 @@
+"""Combinations: one standing of each side."""
+
+
+def combinations(sides):
+    """Yield each combination as a tuple; the last side changes fastest."""
+    kept = [list(side) for side in sides]
+    # Looked for first: long sides before an empty one would take long to walk through in vain.
+    if [] in kept:
+        return
+    if not kept:
+        yield ()
+        return
+    front = kept[:-1]
+    last = kept[-1]
+    for start in combinations(front):
+        for standing in last:
+            yield (*start, standing)
