@@ -1,7 +1,7 @@
 """Boxes: the combinations whose standings all lie in given sides."""
 
 from plainask.checks import is_natural
-from plainask.combos import combinations
+from plainask.combos import every_combination
 from plainask.errors import BadBox
 
 
@@ -26,6 +26,11 @@ def missing(side, other):
     return [standing for standing in side if standing not in known]
 
 
+def common_sides(sides, others):
+    """Return for each party the standings that both its sides have."""
+    return [shared(side, other) for side, other in zip(sides, others)]
+
+
 class Box:
     """The combinations with one standing of each side."""
 
@@ -34,7 +39,7 @@ class Box:
             raise BadBox("a box has at least one side")
         self.sides = tuple([tidy(side) for side in sides])
         # Kept, so that a box can be iterated over and be seen to be empty at no cost.
-        self.members = tuple(combinations(self.sides))
+        self.members = every_combination(self.sides)
 
     def __getitem__(self, at):
         return self.sides[at]
@@ -55,10 +60,10 @@ class Box:
         return not any([missing(side, theirs) for side, theirs in zip(self.sides, other.sides)])
 
     def __and__(self, other):
-        return Box([shared(side, theirs) for side, theirs in zip(self.sides, other.sides)])
+        return Box(common_sides(self.sides, other.sides))
 
     def __sub__(self, other):
-        common = (self & other).sides
+        common = common_sides(self.sides, other.sides)
         pieces = []
         for party, side in enumerate(self.sides):
             rest = missing(side, other.sides[party])

@@ -15,3 +15,16 @@ def combinations(sides):
     for start in combinations(front):
         for standing in last:
             yield (*start, standing)
+
+
+def every_combination(sides):
+    """Return a tuple of what `combinations` yields for the same tuple of tuples.
+
+    The operators of a box come here: none of them may run a generator.
+    """
+    if () in sides:
+        return ()
+    found = [()]
+    for side in sides:
+        found = [(*start, standing) for start in found for standing in side]
+    return tuple(found)

@@ -16,6 +16,9 @@ BARRED_WORDS = """type typing typing_extensions enum Enum IntEnum StrEnum Flag I
     namedtuple NamedTuple TypedDict TYPE_CHECKING abstractmethod register mro elements open input law
     version_info with_traceback add_note""".split()
 
+OPERATORS = ["__" + word + "__" for word in """lt le gt ge ne eq add sub mul floordiv mod pow and or xor lshift rshift
+    neg pos invert abs bool contains getitem len str repr""".split()]
+
 
 class LanguageTests(unittest.TestCase):
     def test_l1_the_package_holds_nothing_but_its_files(self):
@@ -64,6 +67,80 @@ class LanguageTests(unittest.TestCase):
         for path in FILES:
             words = set(re.findall(r"\w+", path.read_text()))
             self.assertEqual(words & set(BARRED_WORDS), set(), path)
+
+    def test_l5_no_operator_reaches_a_generator(self):
+        for name, function in self.reached_by_operators():
+            for node in ast.walk(function):
+                self.assertNotIsInstance(node, (ast.Yield, ast.YieldFrom), name)
+
+    def test_l5_operators_change_only_lists_of_their_own(self):
+        for name, function in self.reached_by_operators():
+            own_lists = {node.targets[0].id for node in ast.walk(function)
+                         if isinstance(node, ast.Assign) and isinstance(node.targets[0], ast.Name)
+                         and isinstance(node.value, (ast.List, ast.ListComp))}
+            parameters = {node.arg for node in ast.walk(function) if isinstance(node, ast.arg)}
+            for node in ast.walk(function):
+                self.assertNotIsInstance(node, (ast.Delete, ast.AugAssign), name)
+                if isinstance(node, ast.Subscript):
+                    self.assertIsInstance(node.ctx, ast.Load, name)
+                if isinstance(node, ast.Attribute) and not isinstance(node.ctx, ast.Load):
+                    self.assertEqual((function.name, node.value.id), ("__init__", "self"), name)
+                if isinstance(node, ast.Call) and isinstance(node.func, ast.Name):
+                    self.assertNotIn(node.func.id, parameters, name)
+                if isinstance(node, ast.Call) and isinstance(node.func, ast.Attribute):
+                    self.assertEqual(node.func.attr, "append", name)
+                    self.assertIn(node.func.value.id, own_lists, name)
+
+    def test_l5_what_operators_reach_is_found(self):
+        names = [name for name, function in self.reached_by_operators()]
+        for name in ("Box.__and__", "Box.__sub__", "Box.__init__", "every_combination", "is_natural"):
+            self.assertIn(name, names)
+
+    def test_l5_builtins_take_lists(self):
+        for path, tree in self.trees():
+            for node in ast.walk(tree):
+                if isinstance(node, ast.Call) and isinstance(node.func, ast.Name):
+                    if node.func.id in ("sum", "min", "max", "sorted", "any", "all"):
+                        self.assertNotIsInstance(node.args[0], ast.GeneratorExp, (path, node.lineno))
+
+    def test_l18_no_name_is_a_method_and_an_attribute(self):
+        functions = self.functions()
+        methods = {name.split(".")[1] for name in functions if "." in name}
+        attributes = {node.attr for path, tree in self.trees() for node in ast.walk(tree)
+                      if isinstance(node, ast.Attribute) and isinstance(node.ctx, ast.Store)}
+        self.assertEqual(methods & attributes, set())
+
+    def test_l23_no_other_function_has_the_name_of_a_generator(self):
+        names = [name.split(".")[-1] for name in self.functions()]
+        for name, function in self.functions().items():
+            if any(isinstance(node, (ast.Yield, ast.YieldFrom)) for node in ast.walk(function)):
+                self.assertEqual(names.count(name.split(".")[-1]), 1, name)
+
+    def functions(self):
+        """Every function by its name, every method by the names of its class and its own."""
+        found = {}
+        for path, tree in self.trees():
+            for node in tree.body:
+                if isinstance(node, ast.FunctionDef):
+                    self.assertNotIn(node.name, found, path)
+                    found[node.name] = node
+                if isinstance(node, ast.ClassDef):
+                    found.update({f"{node.name}.{method.name}": method for method in node.body
+                                  if isinstance(method, ast.FunctionDef)})
+        return found
+
+    def reached_by_operators(self):
+        """The operators, and all functions and methods that they call, also by way of others."""
+        functions = self.functions()
+        reached = [name for name in functions if name.split(".")[-1] in OPERATORS]
+        for name in reached:
+            called = [node.func for node in ast.walk(functions[name]) if isinstance(node, ast.Call)]
+            ends = [node.id for node in called if isinstance(node, ast.Name)]
+            ends += [f"{node.id}.__init__" for node in called if isinstance(node, ast.Name)]
+            ends += [other for other in functions for node in called
+                     if isinstance(node, ast.Attribute) and other.endswith("." + node.attr)]
+            reached.extend([end for end in dict.fromkeys(ends) if end in functions and end not in reached])
+        return [(name, functions[name]) for name in reached]
 
     def trees(self):
         return [(path, ast.parse(path.read_text())) for path in FILES]
