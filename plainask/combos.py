@@ -28,3 +28,8 @@ def every_combination(sides):
     for side in sides:
         found = [(*start, standing) for start in found for standing in side]
     return tuple(found)
+
+
+def replaced(items, at, item):
+    """Return the items as a tuple, with another one at the index."""
+    return (*items[:at], item, *items[at + 1:])
