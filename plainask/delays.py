@@ -7,7 +7,8 @@ from plainask.search import Search
 
 def slow_group(search, sides, party, due):
     """Return a group of the party behind which at least `due - 1` questions are due."""
-    for part in search.look(sides)[1].get(party, []):
+    choices = search.look(sides)[1]
+    for part in choices.get(party, []):
         if not search.enough(replaced(sides, party, part), due - 2):
             return part
     # A party with such groups has one that is slow, or fewer than `due` questions would be enough for the box.

@@ -148,3 +148,20 @@ def plain_rules():
     grown_rules = [plain_rule(seed, shape, 4 + 3 * seed, seed % 2 == 1)[0] for seed in range(8) for shape in shapes]
     free = [indifferent(shape, table_of(some_rule(seed, shape, 3)), 3) for seed in range(2) for shape in shapes]
     return grown_rules + free + [auction((2, 2)), auction((3, 4)), auction((2, 2, 2)), first_come()]
+
+
+def chain(questions):
+    """A chain of questions to party 0: is it 0, or more? Is it 1, or more? .."""
+    rows = ("end", questions)
+    for standing in range(questions - 1, -1, -1):
+        more = tuple(range(standing + 1, questions + 1))
+        rows = ("ask", 0, (((standing,), ("end", standing)), (more, rows)))
+    return rows
+
+
+def grid(first, second):
+    """Party 0 is asked for its standing, then party 1; each combination has an outcome of its own."""
+    return ("ask", 0, tuple(
+        ((one,), ("ask", 1, tuple(((two,), ("end", one * second + two)) for two in range(second))))
+        for one in range(first)
+    ))

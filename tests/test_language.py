@@ -63,6 +63,36 @@ class LanguageTests(unittest.TestCase):
             for character in path.read_text():
                 self.assertTrue(character == "\n" or " " <= character <= "~", (path, character))
 
+    def test_l15_local_names(self):
+        for path, tree in self.trees():
+            taken = set(dir(builtins))
+            for node in tree.body:
+                if isinstance(node, ast.ClassDef):
+                    taken.add(node.name)
+                if isinstance(node, ast.ImportFrom):
+                    taken.update(alias.name for alias in node.names)
+            for node in ast.walk(tree):
+                if isinstance(node, ast.arg):
+                    self.assertNotIn(node.arg, taken, path)
+                if isinstance(node, ast.Name) and isinstance(node.ctx, ast.Store):
+                    self.assertNotIn(node.id, taken, path)
+
+    def test_l16_imports_name_the_defining_file_and_have_no_circles(self):
+        imports = {}
+        for path, tree in self.trees():
+            imports[path.stem] = [node.module.removeprefix("plainask.") for node in tree.body
+                                  if isinstance(node, ast.ImportFrom)]
+            for node in tree.body:
+                if isinstance(node, ast.ImportFrom):
+                    other = ast.parse((PACKAGE / (node.module.removeprefix("plainask.") + ".py")).read_text())
+                    here = [part.name for part in other.body if isinstance(part, (ast.FunctionDef, ast.ClassDef))]
+                    self.assertLessEqual({alias.name for alias in node.names}, set(here), path)
+        while imports:
+            ready = [name for name, needed in imports.items() if not set(needed) & set(imports)]
+            self.assertTrue(ready, imports)
+            for name in ready:
+                del imports[name]
+
     def test_l17_words(self):
         for path in FILES:
             words = set(re.findall(r"\w+", path.read_text()))
@@ -109,6 +139,23 @@ class LanguageTests(unittest.TestCase):
         attributes = {node.attr for path, tree in self.trees() for node in ast.walk(tree)
                       if isinstance(node, ast.Attribute) and isinstance(node.ctx, ast.Store)}
         self.assertEqual(methods & attributes, set())
+
+    def test_l5_sorted_min_and_max_take_numbers(self):
+        numbers = ("int", "len", "ord")
+        for path, tree in self.trees():
+            for node in ast.walk(tree):
+                if not (isinstance(node, ast.Call) and isinstance(node.func, ast.Name)
+                        and node.func.id in ("sorted", "min", "max")):
+                    continue
+                what = node.args[0]
+                by_length = any(word.arg == "key" and word.value.id == "len" for word in node.keywords)
+                by_number = (isinstance(what, ast.ListComp) and isinstance(what.elt, ast.Call)
+                             and what.elt.func.id in numbers)
+                self.assertTrue(by_length or by_number, (path, node.lineno))
+
+    def test_l27_no_percent_sign(self):
+        for path in FILES:
+            self.assertNotIn("%", path.read_text(), path)
 
     def test_l23_no_other_function_has_the_name_of_a_generator(self):
         names = [name.split(".")[-1] for name in self.functions()]

@@ -7,7 +7,7 @@ import unittest
 from plainask.boxes import Box
 from plainask.errors import AskError, BadAnswer, BadBox, BadRow, BadRule, BadTree, BadTurn
 from plainask.trees import Tree
-from tests.samples import first_come, some_rule
+from tests.samples import chain, first_come, grid, some_rule
 
 # None of these is an integer from 0.
 NO_NATURALS = [-1, -10 ** 9, True, False, None, "0", "", (0,), (), [0], 1.0]
@@ -65,23 +65,6 @@ def lists(value):
 
 def only_tuples(value):
     return not isinstance(value, list) and (not isinstance(value, tuple) or all(only_tuples(item) for item in value))
-
-
-def chain(questions):
-    """A chain of questions to party 0: is it 0, or more? Is it 1, or more? .."""
-    rows = ("end", questions)
-    for standing in range(questions - 1, -1, -1):
-        more = tuple(range(standing + 1, questions + 1))
-        rows = ("ask", 0, (((standing,), ("end", standing)), (more, rows)))
-    return rows
-
-
-def grid(first, second):
-    """Party 0 is asked for its standing, then party 1; each combination has an outcome of its own."""
-    return ("ask", 0, tuple(
-        ((one,), ("ask", 1, tuple(((two,), ("end", one * second + two)) for two in range(second))))
-        for one in range(first)
-    ))
 
 
 class TreeTests(unittest.TestCase):
