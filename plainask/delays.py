@@ -15,6 +15,19 @@ def slow_group(search, sides, party, due):
     return sides[party]
 
 
+def delay_row(search, sides, due):
+    """Return the row of a delay book for the box."""
+    answers = [slow_group(search, sides, party, due) for party in range(len(sides))]
+    return (sides, due, tuple(answers))
+
+
+def boxes_behind(row):
+    """Return the sides of the smaller boxes in which an answer of the row replaces its party's side."""
+    sides, due, answers = row
+    smaller = [replaced(sides, party, answer) for party, answer in enumerate(answers)]
+    return [inner for inner in smaller if inner != sides]
+
+
 def delay_book(rule):
     """Return a delay book; None if the rule has no plain tree."""
     search = Search(rule)
@@ -25,14 +38,11 @@ def delay_book(rule):
     waiting = [full]
     # From the greatest number down, so that a box first comes with the greatest number that it is needed for.
     for due in range(search.due(full), 0, -1):
-        later = []
-        for sides in waiting:
-            if sides not in rows:
-                answers = [slow_group(search, sides, party, due) for party in range(rule.parties)]
-                rows[sides] = (sides, due, tuple(answers))
-                smaller = [replaced(sides, party, answer) for party, answer in enumerate(answers)]
-                later.extend([inner for inner in smaller if inner != sides])
-        waiting = later
+        # Kept as keys: the same box can wait behind several rows, but its own row comes once.
+        fresh = {sides: True for sides in waiting if sides not in rows}
+        for sides in fresh:
+            rows[sides] = delay_row(search, sides, due)
+        waiting = [inner for sides in fresh for inner in boxes_behind(rows[sides])]
     return list(rows.values())
 
 

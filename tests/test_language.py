@@ -19,6 +19,84 @@ BARRED_WORDS = """type typing typing_extensions enum Enum IntEnum StrEnum Flag I
 OPERATORS = ["__" + word + "__" for word in """lt le gt ge ne eq add sub mul floordiv mod pow and or xor lshift rshift
     neg pos invert abs bool contains getitem len str repr""".split()]
 
+CHANGES = "append clear extend insert pop remove reverse setdefault sort update add discard".split()
+PASSED_THROUGH = ("enumerate", "zip", "reversed", "iter")
+VIEWS = ("items", "keys", "values")
+
+
+def places(node):
+    """The texts of the names, fields and items that the expression can give, without a copy."""
+    if isinstance(node, (ast.Name, ast.Attribute, ast.Subscript)):
+        is_slice = isinstance(node, ast.Subscript) and isinstance(node.slice, ast.Slice)
+        return [] if is_slice else [ast.unparse(node)]
+    if isinstance(node, ast.IfExp):
+        return places(node.body) + places(node.orelse)
+    if isinstance(node, ast.BoolOp):
+        return [place for value in node.values for place in places(value)]
+    if isinstance(node, ast.NamedExpr):
+        return places(node.target) + places(node.value)
+    return []
+
+
+def walked_by(node):
+    """The places of what is walked, also where enumerate, items and the like stand around it."""
+    if isinstance(node, ast.Call) and isinstance(node.func, ast.Name) and node.func.id in PASSED_THROUGH:
+        return [place for part in node.args for place in walked_by(part)]
+    if isinstance(node, ast.Call) and isinstance(node.func, ast.Attribute) and node.func.attr in VIEWS:
+        return walked_by(node.func.value)
+    return places(node)
+
+
+def changed_in(node):
+    """The places of what the node changes."""
+    if isinstance(node, ast.Call) and isinstance(node.func, ast.Attribute) and node.func.attr in CHANGES:
+        return places(node.func.value)
+    if isinstance(node, ast.Subscript) and not isinstance(node.ctx, ast.Load):
+        return places(node.value)
+    if isinstance(node, ast.AugAssign):
+        return places(node.target)
+    return []
+
+
+def given(node):
+    """The pairs of places of which an assignment gives the one the name of the other."""
+    if isinstance(node, ast.Assign):
+        pairs = [(target, node.value) for target in node.targets]
+    elif isinstance(node, (ast.AnnAssign, ast.NamedExpr)):
+        pairs = [(node.target, node.value)]
+    else:
+        return []
+    for target, value in list(pairs):
+        if isinstance(target, (ast.Tuple, ast.List)) and isinstance(value, (ast.Tuple, ast.List)):
+            pairs.extend(list(zip(target.elts, value.elts)))
+    return [(one, other) for target, value in pairs for one in places(target) for other in places(value)]
+
+
+def with_other_names(found, pairs):
+    """The places together with all that any assignment of the function makes another name of them."""
+    found = list(found)
+    for place in found:
+        for one, other in pairs:
+            found.extend([new for new in (one, other) if place in (one, other) and new not in found])
+    return set(found)
+
+
+def changed_while_walked(function):
+    """The lines of the loops and comprehensions that change what they walk, by any of its names."""
+    pairs = [pair for node in ast.walk(function) for pair in given(node)]
+    lines = []
+    for node in ast.walk(function):
+        heads, inside = [], []
+        if isinstance(node, ast.For):
+            heads, inside = [node.iter], [*node.body, *node.orelse]
+        if isinstance(node, (ast.ListComp, ast.SetComp, ast.DictComp, ast.GeneratorExp)):
+            heads, inside = [part.iter for part in node.generators], [node]
+        walked = with_other_names([place for head in heads for place in walked_by(head)], pairs)
+        changed = [place for row in inside for part in ast.walk(row) for place in changed_in(part)]
+        if walked & set(changed):
+            lines.append(node.lineno)
+    return lines
+
 
 class LanguageTests(unittest.TestCase):
     def test_l1_the_package_holds_nothing_but_its_files(self):
@@ -162,6 +240,34 @@ class LanguageTests(unittest.TestCase):
         for name, function in self.functions().items():
             if any(isinstance(node, (ast.Yield, ast.YieldFrom)) for node in ast.walk(function)):
                 self.assertEqual(names.count(name.split(".")[-1]), 1, name)
+
+    def test_l23_no_loop_changes_what_it_walks(self):
+        for name, function in self.functions().items():
+            self.assertEqual(changed_while_walked(function), [], name)
+
+    def test_l23_a_loop_that_changes_what_it_walks_is_found(self):
+        for rows in ("for x in xs:\n  xs.append(x)",
+                     "for x in xs:\n  later.extend([x])\nxs = later",
+                     "later = held = xs\nfor x in xs:\n  del held[0]",
+                     "xs, later = later, xs\nfor k, x in enumerate(xs):\n  later[k] = x",
+                     "self.rows = xs\nfor x in xs:\n  self.rows.pop()",
+                     "inner = rows[2]\nfor x in rows[2]:\n  inner += [x]",
+                     "later = xs if flag else []\nfor x in xs:\n  later.clear()",
+                     "for x in xs or ys:\n  ys.insert(0, x)",
+                     "for x in xs:\n  (ys if x else xs).append(x)",
+                     "for key, x in table.items():\n  table[key] = x",
+                     "ys = [table.pop(key) for key in table]"):
+            self.assertEqual(len(changed_while_walked(ast.parse(rows))), 1, rows)
+
+    def test_l23_a_loop_that_changes_something_else_is_left_alone(self):
+        for rows in ("for x in list(xs):\n  later.extend([x])\nxs = later",
+                     "for x in xs:\n  later.extend([x])\nxs = list(later)",
+                     "for x in xs[:]:\n  xs.append(x)",
+                     "for x in xs:\n  ys[x] = 1",
+                     "xs = [y for x in xs for y in behind(x)]",
+                     "for key in sorted(table):\n  table[key] = 0",
+                     "while xs:\n  xs.pop()"):
+            self.assertEqual(changed_while_walked(ast.parse(rows)), [], rows)
 
     def functions(self):
         """Every function by its name, every method by the names of its class and its own."""
